@@ -1,0 +1,1 @@
+"""A court for claims about nets, with papers for and against."""
