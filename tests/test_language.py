@@ -52,6 +52,10 @@ def names_bound_within(tree):
             yield node.id
 
 
+def name_called(node):
+    return node.func.id if isinstance(node.func, ast.Name) else None
+
+
 class TestLanguage(unittest.TestCase):
     def setUp(self):
         self.files = parsed_files()
@@ -164,6 +168,29 @@ class TestLanguage(unittest.TestCase):
             self.assertFalse(isinstance(node, ast.Try) and node.finalbody, where)
         for where, node in self.nodes_of(ast.ListComp):
             self.assertTrue(len(node.generators) == 1 and len(node.generators[0].ifs) <= 1, where)
+
+    def test_what_is_walked_at_once(self):
+        taken = set("list tuple dict sorted sum any all enumerate zip min max".split())
+        walked = [node.iter for where, node in self.nodes_of((ast.For, ast.comprehension))]
+        for where, node in self.nodes_of(ast.Call):
+            if name_called(node) in taken or isinstance(node.func, ast.Attribute) and node.func.attr == "join":
+                walked += node.args[:1]
+        for where, node in self.nodes_of(ast.Call):
+            lazy = name_called(node) in ("zip", "enumerate", "reversed", "range")
+            if lazy or isinstance(node.func, ast.Attribute) and node.func.attr in ("items", "keys", "values"):
+                self.assertIn(node, walked, where)
+
+    def test_sets(self):
+        counted = [node.args[0] for where, node in self.nodes_of(ast.Call) if name_called(node) in ("len", "sorted")]
+        compared = [part for where, node in self.nodes_of(ast.Compare) for part in [node.left] + node.comparators]
+        for where, node in self.nodes_of((ast.Call, ast.Set)):
+            if isinstance(node, ast.Set) or name_called(node) in ("set", "frozenset"):
+                self.assertIn(node, counted + compared, where)
+
+    def test_what_is_taken_of_pythons_own_errors(self):
+        for where, node in self.nodes_of(ast.ExceptHandler):
+            self.assertIsInstance(node.type, ast.Name, where)
+            self.assertNotIn(node.type.id, ("Exception", "TypeError"), where)
 
 
 if __name__ == "__main__":
