@@ -59,8 +59,17 @@ def read_word(word):
     return read_number(word, MOST_FIGURES)
 
 
+def is_row(paper, many):
+    return isinstance(paper, list) and len(paper) == many
+
+
 def is_pair(paper):
-    return isinstance(paper, list) and len(paper) == 2
+    return is_row(paper, 2)
+
+
+# [1, ...] or [2, ...]: which of two things the paper behind it is for.
+def is_choice(paper):
+    return is_pair(paper) and is_whole(paper[0]) and 1 <= paper[0] <= 2
 
 
 # Sought in a list, not in a dict, as whatever anybody hands in can be sought there.
@@ -71,11 +80,20 @@ def is_place(net, paper):
 def are_unlike_places(net, paper):
     if not isinstance(paper, list) or not all([is_place(net, part) for part in paper]):
         return False
-    return len(set(paper)) == len(paper)
+    return are_unlike(paper)
+
+
+def are_unlike(names):
+    return len(set(names)) == len(names)
 
 
 def ties_by_name(net):
     return dict([(row[0], row) for row in net.ties()])
+
+
+# A text first, as a list can't be sought in a dict.
+def is_tie(rows, paper):
+    return isinstance(paper, str) and paper in rows
 
 
 # All places that the walk comes to, each as often as it does, a first; None where the paper is no walk from a.
@@ -85,7 +103,7 @@ def walk_stops(net, a, paper):
     rows = ties_by_name(net)
     stops = [a]
     for name in paper:
-        if not isinstance(name, str) or name not in rows or rows[name][1] != stops[-1]:
+        if not is_tie(rows, name) or rows[name][1] != stops[-1]:
             return None
         stops.append(rows[name][2])
     return stops

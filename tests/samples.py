@@ -29,13 +29,13 @@ def all_of(net):
     return (net.places(), net.ties())
 
 
-def chance_net(chance, places, ties, costs):
+def chance_net(chance, places, ties, costs, widths=(1,)):
     net = Net()
     for number in range(places):
         net.place(name_of(number))
     for number in range(ties if places > 1 else 0):
         a, b = chance.sample(net.places(), 2)
-        net.tie(name_of(number), a, b, 1, chance.choice(costs))
+        net.tie(name_of(number), a, b, chance.choice(widths), chance.choice(costs))
     return net
 
 
@@ -129,6 +129,22 @@ def plain_claims(net):
 def edge_costs(net, a, b):
     least = least_costs(net, a).get(b, 0)
     return sorted({least - 1, least, least + 1, 0, -GREAT, GREAT})
+
+
+def slow_members(net, kind):
+    if kind[0] == "all":
+        return net.places()
+    if kind[0] == "these":
+        return [place for place in net.places() if place in kind[1]]
+    claims = [("way", kind[1], place) if kind[0] == "from" else ("way", place, kind[1]) for place in net.places()]
+    return [place for place, claim in zip(net.places(), claims) if slow_truth(net, claim)]
+
+
+def kinds_of(net):
+    places = net.places()
+    kinds = [("all",), ("these", []), ("these", list(places)), ("these", places[::-1]),
+             ("these", places[:2] + places[:1])]
+    return kinds + [(word, place) for word in ("from", "to") for place in places]
 
 
 # The slow looker: whatever is of another shape than asked for trips over one of its steps, and is no such paper.
@@ -228,6 +244,29 @@ def slow_look(net, claim, so, paper):
     except Wrong:
         return False
     return True
+
+
+# What a told paper is made of.
+
+def spoil(thing):
+    """Changes every list of a told paper."""
+    if type(thing) is list:
+        for part in list(thing):
+            spoil(part)
+        thing.reverse()
+        thing.append("spoilt")
+
+
+def lists_in(thing):
+    if type(thing) is not list:
+        return []
+    return [thing] + [inner for part in thing for inner in lists_in(part)]
+
+
+def figures(thing):
+    if type(thing) is int:
+        return len(str(abs(thing)))
+    return max([figures(part) for part in thing], default=0) if type(thing) is list else 0
 
 
 # Papers with one thing wrong (or only otherwise): at each place of a paper, one part changed.

@@ -7,29 +7,8 @@ import unittest
 
 from netcourt.plain import look_plain
 from netcourt.plain_found import find_plain
-from samples import (GREAT, all_of, chance_net, chance_nets, full_nets, least_costs, named_nets, net_of, plain_claims,
-                     slow_look, slow_truth)
-
-
-def spoil(thing):
-    """Changes every list of a told paper."""
-    if type(thing) is list:
-        for part in list(thing):
-            spoil(part)
-        thing.reverse()
-        thing.append("spoilt")
-
-
-def lists_in(thing):
-    if type(thing) is not list:
-        return []
-    return [thing] + [inner for part in thing for inner in lists_in(part)]
-
-
-def figures(thing):
-    if type(thing) is int:
-        return len(str(abs(thing)))
-    return max([figures(part) for part in thing], default=0) if type(thing) is list else 0
+from samples import (GREAT, all_of, chance_net, chance_nets, figures, full_nets, least_costs, lists_in, named_nets,
+                     net_of, plain_claims, slow_look, slow_truth, spoil)
 
 
 class FindCase(unittest.TestCase):

@@ -6,27 +6,12 @@ import unittest
 
 from netcourt.papers import walk_end
 from netcourt.sets import is_member, is_within, member_paper, members_of, within_paper
-from samples import NO_PAPERS, ODD_PARTS, all_of, chance_nets, changed_papers, full_nets, named_nets, net_of, slow_truth
+from samples import (NO_PAPERS, ODD_PARTS, all_of, chance_nets, changed_papers, full_nets, kinds_of, named_nets,
+                     net_of, slow_members)
 
 # f stands apart; d and e lead to one another; the net's order is not that of the letters.
 NET = net_of("cafbed", ("t", "a", "b", 1), ("u", "b", "c", 1), ("v", "c", "b", 1), ("w", "d", "e", 1),
              ("x", "e", "d", 1), ("y", "d", "a", 1), ("a", "a", "b", 1))
-
-
-def slow_members(net, kind):
-    if kind[0] == "all":
-        return net.places()
-    if kind[0] == "these":
-        return [place for place in net.places() if place in kind[1]]
-    claims = [("way", kind[1], place) if kind[0] == "from" else ("way", place, kind[1]) for place in net.places()]
-    return [place for place, claim in zip(net.places(), claims) if slow_truth(net, claim)]
-
-
-def kinds_of(net):
-    places = net.places()
-    kinds = [("all",), ("these", []), ("these", list(places)), ("these", places[::-1]),
-             ("these", places[:2] + places[:1])]
-    return kinds + [(word, place) for word in ("from", "to") for place in places]
 
 
 def some_nets():
