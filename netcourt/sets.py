@@ -12,15 +12,23 @@ def steps_of(net, word):
 
 # For each place to which steps lead from a, the names of the steps, as few as can be, so that no place comes twice.
 def steps_to_places(steps, a):
+    onward = steps_by_begin(steps)
     found = {a: []}
     waiting = [a]
     while waiting != []:
         here = waiting.pop(0)
-        for name, begin, end in steps:
-            if begin == here and end not in found:
+        for name, begin, end in onward.get(here, []):
+            if end not in found:
                 found[end] = found[here] + [name]
                 waiting.append(end)
     return found
+
+
+def steps_by_begin(steps):
+    onward = {}
+    for step in steps:
+        onward.setdefault(step[1], []).append(step)
+    return onward
 
 
 def is_within(net, kind, paper):

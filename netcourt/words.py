@@ -1,10 +1,12 @@
-"""What a name is, what a whole number is, and how a number is read from its text."""
+"""What a name is, what a variable is, what a whole number is, and how a number is read from its text."""
 
 from netcourt.errors import NoText
 
 SMALL_LETTERS = "abcdefghijklmnopqrstuvwxyz"
+GREAT_LETTERS = "ABCDEFGHIJKLMNOPQRSTUVWXYZ"
 FIGURES = "0123456789"
 LONGEST_NAME = 12
+LONGEST_VARIABLE = 3
 
 
 def is_made_of(text, signs):
@@ -15,6 +17,10 @@ def is_name(word):
     if not isinstance(word, str):
         return False
     return 1 <= len(word) <= LONGEST_NAME and is_made_of(word, SMALL_LETTERS)
+
+
+def is_variable(word):
+    return 1 <= len(word) <= LONGEST_VARIABLE and is_made_of(word, GREAT_LETTERS)
 
 
 # Python counts True and False among its ints; here they are no whole numbers.

@@ -15,7 +15,10 @@ NET = net_of("cafbed", ("t", "a", "b", 1), ("u", "b", "c", 1), ("v", "c", "b", 1
 
 
 def some_nets():
-    return named_nets() + chance_nets(8, 30) + [NET]
+    words = net_of("")
+    for number, (a, b) in enumerate((("all", "from"), ("from", "these"), ("to", "all"), ("in", "to"))):
+        words.tie(f"t{'abcd'[number]}", a, b, 1, 1)
+    return named_nets() + chance_nets(8, 30) + [NET, words]
 
 
 class TestMembers(unittest.TestCase):

@@ -1,9 +1,9 @@
-"""What a name is, what a whole number is, and numbers read from texts."""
+"""What a name is, what a variable is, what a whole number is, and numbers read from texts."""
 
 import unittest
 
 from netcourt.errors import NoText
-from netcourt.words import is_name, is_whole, read_number
+from netcourt.words import is_name, is_variable, is_whole, read_number
 
 LETTERS = "abcdefghijklmnopqrstuvwxyz"
 
@@ -26,6 +26,15 @@ class TestNames(unittest.TestCase):
     def test_what_is_no_text(self):
         for thing in (None, 0, 1, True, [], ["a"], ("a",), {"a": True}):
             self.assertIs(is_name(thing), False, thing)
+
+
+class TestVariables(unittest.TestCase):
+    def test_one_to_three_great_letters(self):
+        for word in list(LETTERS.upper()) + ["AB", "XYZ", "ZZZ"]:
+            self.assertIs(is_variable(word), True, word)
+        for word in ("", "ABCD", "a", "x", "Ab", "aB", "XyZ", "A1", "1", "A ", " A", "A\n", "\u00c4", "\u0391",
+                     "\uff21"):
+            self.assertIs(is_variable(word), False, repr(word))
 
 
 class TestWholeNumbers(unittest.TestCase):
